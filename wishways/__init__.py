@@ -1,0 +1,1 @@
+"""Traffic between many pairs at once, along ties with rooms."""
