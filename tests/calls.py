@@ -2,9 +2,12 @@
 
 import samples
 from samples import KITE, LINE, RING
-from wishways import errors, parser, printer, ratios, rows, tokens, webs
+from wishways import (apart, cuts, cuttree, errors, flows, leastcuts, parser, printer, ratios, rows, tables, tokens, uncrossing,
+                      ways, webs)
 
 ASK = ((0, 2, 5),)
+FLOW, TREE = (1, 0, 0, 1, 0), ((0, 1, 3), (1, 2, 3), (2, 3, 3))
+TWO, POINT = ("table", ((1, 1), (1, 0)), (4, 3), (3, 2)), ((3, 1), (1, 1))
 
 # The kinds of parameters: the error that is raised, and values for which it is.
 WRONG = {
@@ -22,10 +25,21 @@ WRONG = {
     "ties": (errors.InvalidTies, samples.NOT_TIES),
     "asked": (errors.InvalidRows, samples.NOT_ASKED),
     "order": (errors.InvalidOrder, samples.NOT_ORDERS),
+    "place but 0": (errors.InvalidPlace, samples.NOT_PLACES + [4, 5, 0]),
+    "cut": (errors.InvalidCut, samples.NOT_CUTS + [(4,), (1, 2, 3, 4)]),
+    "side": (errors.InvalidSide, [None, "", (), [], {1}, [0, 1, 2, 3], [1, 1], [4], [True], samples.TOUCHY]),
+    "cuts": (errors.InvalidCuts, [None, "", {(1,)}, [()], [(0,)], [(4,)], [[1]], [(1,)] * 13, samples.TOUCHY]),
+    "laminar cuts": (errors.InvalidCuts, [None, [(4,)], [(2,), (1,)], [(1,), (1,)], [(1, 2), (2, 3)], samples.TOUCHY]),
+    "flow": (errors.InvalidFlow, samples.STRANGE + [[1, 0, 0, 1, 0], (1, 0, 0, 0, 0), (3, 0, 0, 1, 0)]),
+    "wish": (errors.InvalidWish, samples.NOT_INTEGERS + [0, 21, -1, 10 ** 39]),
+    "tree": (errors.InvalidTree, samples.STRANGE + [list(TREE), TREE[:2], ((0, 1, 3), (0, 2, 3), (0, 3, 3))]),
+    "table": (errors.InvalidTable, samples.STRANGE + [list(TWO), TWO[:3]]),
+    "point": (errors.InvalidPoint, samples.STRANGE + [list(POINT), ((4, 1), (1, 1))]),
+    "way": (errors.InvalidWay, samples.STRANGE + [[0, 1], (0, 3), (0,), (0, 1, 0)]),
 }
 
 # The kinds for which the document says list, so that a tuple is accepted as well.
-LISTED = ["ratios", "ties", "asked", "order"]
+LISTED = ["ratios", "ties", "asked", "order", "side", "cuts", "laminar cuts"]
 
 STAGE_1 = [
     (ratios, "is_ratio", [("value", (1, 2), "any")]),
@@ -67,4 +81,59 @@ STAGE_1 = [
     (printer, "traffic_text", [("web", LINE, "web"), ("wishes", ASK, "wishes")]),
 ]
 
-CALLS = STAGE_1
+WEB, ONE, OTHER = ("web", KITE, "web"), ("one", 0, "place"), ("other", 3, "place but 0")
+WISHES, CUT = ("wishes", ASK, "wishes of four"), ("cut", (1, 2), "cut")
+SECOND, CUTS = ("second", (2, 3), "cut"), ("cuts", [(2, 3), (1, 2)], "cuts")
+TABLE = ("table", TWO, "table")
+
+STAGE_2 = [
+    (cuts, "all_cuts", [WEB]),
+    (cuts, "cut_of", [WEB, ("side", [3, 0], "side")]),
+    (cuts, "crossing_ties", [WEB, CUT]),
+    (cuts, "room_of_cut", [WEB, CUT]),
+    (cuts, "wish_of_cut", [WEB, WISHES, CUT]),
+    (cuts, "slack", [WEB, WISHES, CUT]),
+    (cuts, "over_asked", [WEB, WISHES]),
+    (cuts, "tight_cuts", [WEB, WISHES]),
+    (cuts, "has_room_everywhere", [WEB, WISHES]),
+    (cuts, "least_slack", [WEB, WISHES]),
+    (leastcuts, "least_cut", [WEB, ONE, OTHER]),
+    (leastcuts, "least_room", [WEB, ONE, OTHER]),
+    (leastcuts, "least_cuts", [WEB, ONE, OTHER]),
+    (leastcuts, "nearest_cut", [WEB, ONE, OTHER]),
+    (leastcuts, "weakest_cut", [WEB]),
+    (leastcuts, "is_firm", [WEB, CUT]),
+    (leastcuts, "firm_cuts", [WEB]),
+    (uncrossing, "cuts_cross", [WEB, CUT, SECOND]),
+    (uncrossing, "uncrossed", [WEB, CUT, SECOND]),
+    (uncrossing, "is_laminar", [WEB, CUTS]),
+    (uncrossing, "made_laminar", [WEB, CUTS]),
+    (uncrossing, "holders", [WEB, ("cuts", [(1,), (1, 2), (3,)], "laminar cuts")]),
+    (ways, "is_way", [WEB, ("value", (0, 1, 3), "any")]),
+    (ways, "ties_of_way", [WEB, ("way", (0, 1, 3), "way")]),
+    (flows, "is_flow", [WEB, ONE, OTHER, ("value", FLOW, "any")]),
+    (flows, "value_of", [WEB, ONE, OTHER, ("flow", FLOW, "flow")]),
+    (flows, "greatest_flow", [WEB, ONE, OTHER]),
+    (flows, "is_greatest", [WEB, ONE, OTHER, ("value", (2, 1, 1, 1, 2), "any")]),
+    (flows, "flow_plan", [WEB, ONE, OTHER]),
+    (flows, "pair_answer", [WEB, ONE, OTHER, ("wish", 2, "wish")]),
+    (apart, "ways_apart", [WEB, ONE, OTHER]),
+    (apart, "are_apart", [WEB, ONE, OTHER, ("value", [(0, 1, 3), (0, 2, 3)], "any")]),
+    (apart, "parting_ties", [WEB, ONE, OTHER]),
+    (apart, "do_part", [WEB, ONE, OTHER, ("value", [3, 4], "any")]),
+    (cuttree, "is_tree", [WEB, ("value", TREE, "any")]),
+    (cuttree, "is_cut_tree", [WEB, ("value", TREE, "any")]),
+    (cuttree, "cut_tree", [WEB]),
+    (cuttree, "least_by_tree", [WEB, ("tree", TREE, "tree"), ONE, OTHER]),
+    (cuttree, "cut_by_tree", [WEB, ("tree", TREE, "tree"), ONE, OTHER]),
+    (tables, "is_table", [("value", TWO, "any")]),
+    (tables, "is_point", [TABLE, ("value", POINT, "any")]),
+    (tables, "is_price_row", [TABLE, ("value", ((2, 1), (1, 1)), "any")]),
+    (tables, "is_direction", [("table", ("table", ((1, -1),), (1,), (0, 1)), "table"), ("value", ((0, 1), (1, 1)), "any")]),
+    (tables, "is_bar", [("table", ("table", ((1,), (-1,)), (1, -2), (0,)), "table"), ("value", ((1, 1), (1, 1)), "any")]),
+    (tables, "is_answer", [TABLE, ("value", ("best", POINT, ((2, 1), (1, 1))), "any")]),
+    (tables, "worth_of", [TABLE, ("point", POINT, "point")]),
+    (tables, "tight_rows", [TABLE, ("point", POINT, "point")]),
+]
+
+CALLS = STAGE_1 + STAGE_2
