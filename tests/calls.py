@@ -2,12 +2,15 @@
 
 import samples
 from samples import KITE, LINE, RING
-from wishways import (apart, cuts, cuttree, errors, flows, leastcuts, parser, printer, ratios, rows, tables, tokens, uncrossing,
-                      ways, webs)
+from wishways import (apart, bounds, cuts, cutsums, cuttree, distances, errors, flows, leastcuts, lengths, parser, plans, printer,
+                      ratios, rows, served, solving, tables, tokens, uncrossing, ways, webs)
 
 ASK = ((0, 2, 5),)
 FLOW, TREE = (1, 0, 0, 1, 0), ((0, 1, 3), (1, 2, 3), (2, 3, 3))
 TWO, POINT = ("table", ((1, 1), (1, 0)), (4, 3), (3, 2)), ((3, 1), (1, 1))
+CUT_TABLE, SHARING = [[0, 2, 3], [2, 0, 3], [3, 3, 0]], (((1,), (1, 1)), ((1, 2), (1, 1)), ((2,), (2, 1)))
+BOTH_TABLE = distances.distances(samples.BOTH, (1,) * 6)
+FULL = (((0, 1, 3), (1, 1)), ((0, 2, 3), (2, 1)))
 
 # The kinds of parameters: the error that is raised, and values for which it is.
 WRONG = {
@@ -36,10 +39,17 @@ WRONG = {
     "table": (errors.InvalidTable, samples.STRANGE + [list(TWO), TWO[:3]]),
     "point": (errors.InvalidPoint, samples.STRANGE + [list(POINT), ((4, 1), (1, 1))]),
     "way": (errors.InvalidWay, samples.STRANGE + [[0, 1], (0, 3), (0,), (0, 1, 0)]),
+    "position of two": (errors.InvalidPosition, samples.NOT_PLACES + [2]),
+    "lengths": (errors.InvalidLengths, samples.NOT_LENGTHS),
+    "many to five": (errors.InvalidMany, samples.NOT_MANY + [6]),
+    "distance table": (errors.InvalidTable, samples.NOT_DISTANCES + [[[0] * 6] * 6, [[0] * 8] * 8]),
+    "sharing": (errors.InvalidSharing, samples.NOT_SHARINGS),
+    "plan": (errors.InvalidPlan, samples.NOT_PLANS),
+    "ratio above 0": (errors.InvalidRatio, samples.NOT_RATIOS + [(0, 1), (-1, 2), (-3, 1)]),
 }
 
 # The kinds for which the document says list, so that a tuple is accepted as well.
-LISTED = ["ratios", "ties", "asked", "order", "side", "cuts", "laminar cuts"]
+LISTED = ["ratios", "ties", "asked", "order", "side", "cuts", "laminar cuts", "distance table"]
 
 STAGE_1 = [
     (ratios, "is_ratio", [("value", (1, 2), "any")]),
@@ -136,4 +146,50 @@ STAGE_2 = [
     (tables, "tight_rows", [TABLE, ("point", POINT, "point")]),
 ]
 
-CALLS = STAGE_1 + STAGE_2
+LENGTHS, SPAN = ("lengths", (1, 9, 1, 2, 0), "lengths"), ("table", CUT_TABLE, "distance table")
+PLAIN, PLAN = ("wishes", ((0, 3, 3),), "wishes of four"), ("plan", FULL, "plan")
+
+STAGE_3 = [
+    (solving, "solved", [TABLE]),
+    (solving, "best_worth", [TABLE]),
+    (solving, "plain_best", [TABLE]),
+    (bounds, "dual_table", [TABLE]),
+    (bounds, "has_point", [TABLE]),
+    (bounds, "some_point", [TABLE]),
+    (bounds, "some_bar", [TABLE]),
+    (bounds, "range_at", [TABLE, ("position", 1, "position of two")]),
+    (lengths, "is_lengths", [WEB, ("value", (1, 9, 1, 2, 0), "any")]),
+    (lengths, "length_of", [WEB, LENGTHS, ("way", (0, 1, 3), "way")]),
+    (lengths, "lengths_of_cut", [WEB, CUT]),
+    (lengths, "had", [WEB, LENGTHS]),
+    (lengths, "spent", [WEB, WISHES, LENGTHS]),
+    (lengths, "bars", [WEB, WISHES, LENGTHS]),
+    (distances, "distances", [WEB, LENGTHS]),
+    (distances, "shortest_way", [WEB, LENGTHS, ONE, OTHER]),
+    (distances, "lowered", [WEB, LENGTHS]),
+    (distances, "is_tight", [WEB, LENGTHS]),
+    (distances, "is_distance_table", [("value", CUT_TABLE, "any")]),
+    (cutsums, "is_sharing", [("many", 3, "many to five"), ("value", SHARING, "any")]),
+    (cutsums, "table_of", [("many", 3, "many to five"), ("sharing", SHARING, "sharing")]),
+    (cutsums, "sharing_of", [SPAN]),
+    (cutsums, "is_sharing_of", [SPAN, ("value", SHARING, "any")]),
+    (cutsums, "weighing_of", [SPAN]),
+    (cutsums, "is_weighing", [("table", BOTH_TABLE, "distance table"), ("value", (-1, 1, 1, 1, 1, 1, 1, -1, -1, -1), "any")]),
+    (ways, "ways_of", [WEB, ONE, ("other", 3, "place")]),
+    (plans, "is_plan", [WEB, PLAIN, ("value", FULL, "any")]),
+    (plans, "loads", [WEB, PLAIN, PLAN]),
+    (plans, "got", [WEB, PLAIN, PLAN]),
+    (plans, "fits", [WEB, PLAIN, PLAN]),
+    (plans, "serves", [WEB, PLAIN, PLAN]),
+    (plans, "in_wholes", [WEB, PLAIN, PLAN]),
+    (plans, "in_halves", [WEB, PLAIN, PLAN]),
+    (plans, "plans_added", [WEB, PLAIN, PLAN, ("other", (((0, 2, 3), (1, 3)),), "plan")]),
+    (plans, "plan_taken", [WEB, PLAIN, PLAN, ("ratio", (2, 3), "ratio above 0")]),
+    (served, "share", [WEB, WISHES]),
+    (served, "share_plan", [WEB, WISHES]),
+    (served, "share_lengths", [WEB, WISHES]),
+    (served, "serving_plan", [WEB, PLAIN]),
+    (served, "barring_lengths", [WEB, WISHES]),
+]
+
+CALLS = STAGE_1 + STAGE_2 + STAGE_3

@@ -1,5 +1,7 @@
 """What the tests have in common: webs made without chance, plain looks at them, and values of any kind."""
 
+import functools
+from fractions import Fraction
 from itertools import combinations
 
 
@@ -26,6 +28,8 @@ STRANGE = [None, True, False, -1, 10 ** 39, "", "web", "table", "012", b"", b"we
            (TOUCHY,) * 4, [TOUCHY] * 3, ("web", TOUCHY, TOUCHY), ("web", 3, TOUCHY), ("web", 3, (TOUCHY,)),
            ("table", TOUCHY, TOUCHY, TOUCHY), (None,), ([],), ({},), (set(),), ("",), (True,), (False, True),
            (1, None), (None, 1), ((),), ((), ()), deep(50), [[]], "places 2\ntie 0 1 1\n"]
+
+NOT_EMPTY = [value for value in STRANGE if not isinstance(value, tuple) or len(value) > 0]
 
 # Two places, both ways round, and webs of all sizes; what is asked of them stands beside.
 LEAST = ("web", 2, ((0, 1, 1),))
@@ -112,6 +116,12 @@ def plain_ways(web, one, other):
     return ended
 
 
+@functools.lru_cache(None)
+def all_ways(web, one, other):
+    """All ways of a web that is one, kept: they are looked at often."""
+    return tuple(plain_ways(web, one, other))
+
+
 def plain_least(web, one, other):
     """The sorted list of the least cuts of two places, and their room."""
     parting = [cut for cut in plain_cuts(web[1]) if (one in cut) != (other in cut)]
@@ -165,3 +175,92 @@ NOT_ASKED = STRANGE + [[[0, 1, 1]], [(0, 1)], [(0, 1, 1, 1)], [(0, 1, 0)], [(0, 
 # No orders of three places.
 NOT_ORDERS = STRANGE + [[0, 1], [0, 1, 1], [0, 1, 3], [0, 1, 2, 2], [True, 0, 2], [0, True, 2], [-1, 0, 1], [0, 1, None],
                         [0, 1, "2"], {0: 0, 1: 1, 2: 2}, {0, 1, 2}, [[0], [1], [2]]]
+# No lengths of a web with five ties.
+NOT_LENGTHS = STRANGE + [[1, 9, 1, 2, 0], (1, 9, 1, 2), (1, 9, 1, 2, 0, 0), (1, 9, 1, 2, -1), (1, 9, 1, 2, True), (False, 9, 1, 2, 0),
+                         (1, 9, 1, 2, 10 ** 12 + 1), (1, 9, None, 2, 0), (1, 9, "1", 2, 0), (1, 9, (1, 1), 2, 0), "19120",
+                         (TOUCHY,) * 5, (1, 9, 1, 2, TOUCHY), {0: 1, 1: 9, 2: 1, 3: 2, 4: 0}, range(5)]
+NOT_DISTANCES = STRANGE + [[[0]], [[0, 1]], [[0, 1], [1]], [[0, 1], [1, 0], [0, 0]], [[0, 1], [2, 0]], [[1, 1], [1, 0]], [[0, 1], [1, 1]],
+                           [[0, -1], [-1, 0]], [[0, True], [True, 0]], [[False, 1], [1, 0]], [[0, 1], (1, None)], [[0, "1"], ["1", 0]],
+                           [[0, 10 ** 14 + 1], [10 ** 14 + 1, 0]], [[0, 1, 3], [1, 0, 1], [3, 1, 0]], [[0, 1, 0], [1, 0, 0], [0, 0, 0]],
+                           [[0] * 9] * 9, [[0, (1, 1)], [(1, 1), 0]], [{0: 0, 1: 1}, [1, 0]], {0: [0, 1], 1: [1, 0]}, [[0, 1], "10"],
+                           [[0, TOUCHY], [TOUCHY, 0]], [[0, 1], TOUCHY], [range(2), [1, 0]], "01"]
+# No sharings of three places.
+NOT_SHARINGS = NOT_EMPTY + [
+    [((1,), (1, 1))], (((1,), (0, 1)),), (((1,), (-1, 2)),), (((1,), (2, 4)),), (((1,), 1),), (((1,), (True, 1)),), (((0,), (1, 1)),),
+    (((3,), (1, 1)),), (((2, 1), (1, 1)),), (((1, 1), (1, 1)),), (((), (1, 1)),), (([1], (1, 1)),), (((True,), (1, 1)),),
+    (((1,), (1, 1)), ((1,), (1, 1))), (((1,), (1, 1)), ((1,), (2, 1))), (((2,), (1, 1)), ((1,), (1, 1))), (((1,), (1, 1), ()),),
+    (((1,),),), ([(1,), (1, 1)],), ((1, (1, 1)),), (((1,), TOUCHY),), ((TOUCHY, (1, 1)),), (((1, 2, 3), (1, 1)),)]
+# No plans of KITE for a wish of the places 0 and 3.
+NOT_PLANS = NOT_EMPTY + [
+    [((0, 1, 3), (1, 1))], (((0, 1, 3), (0, 1)),), (((0, 1, 3), (-1, 2)),), (((0, 1, 3), (2, 4)),), (((0, 1, 3), 1),),
+    (((0, 1, 3), (True, 1)),), (((3, 1, 0), (1, 1)),), (((0, 1), (1, 1)),), (((0, 3), (1, 1)),), (((0, 1, 0, 2, 3), (1, 1)),),
+    (([0, 1, 3], (1, 1)),), (((0, 1, 3), (1, 1)), ((0, 1, 3), (1, 1))), (((0, 1, 3), (1, 1)), ((0, 1, 3), (2, 1))),
+    (((0, 2, 3), (1, 1)), ((0, 1, 3), (1, 1))), (((0, 1, 3), (1, 1), ()),), (((0, 1, 3),),), ([(0, 1, 3), (1, 1)],),
+    (((0, True, 3), (1, 1)),), (((False, 1, 3), (1, 1)),), (((0, 1, 4), (1, 1)),), ((None, (1, 1)),), (((0, 1, 3), None),),
+    ((TOUCHY, (1, 1)),), (((0, 1, 3), TOUCHY),), (((0, 1, 3), [1, 1]),), (((0,), (1, 1)),), (((), (1, 1)),), (((1, 3), (1, 1)),),
+    {(0, 1, 3): (1, 1)}, {((0, 1, 3), (1, 1))}]
+
+
+def fraction(ratio):
+    return Fraction(ratio[0], ratio[1])
+
+
+def ratio_of(number):
+    """A number as the RATIO that is returned for it."""
+    return (Fraction(number).numerator, Fraction(number).denominator)
+
+
+@functools.lru_cache(None)
+def steps_of(way):
+    """The list of the pairs of places that are side by side in a way, the lesser one first."""
+    return [(min(step), max(step)) for step in zip(way, way[1:])]
+
+
+def plain_length(web, lengths, way):
+    told = {tie[:2]: length for tie, length in zip(web[2], lengths)}
+    return sum([told[step] for step in steps_of(way)])
+
+
+def plain_distance(web, lengths, one, other):
+    """The length of the shortest of all ways."""
+    if one == other:
+        return 0
+    told = {tie[:2]: length for tie, length in zip(web[2], lengths)}
+    return min([sum([told[step] for step in steps_of(way)]) for way in all_ways(web, one, other)])
+
+
+def plain_had(web, lengths):
+    return sum([tie[2] * length for tie, length in zip(web[2], lengths)])
+
+
+def plain_spent(web, wishes, lengths):
+    return sum([wish * plain_distance(web, lengths, one, other) for one, other, wish in wishes])
+
+
+def plain_loads(web, plan):
+    return [sum([fraction(ratio) for way, ratio in plan if tie[:2] in steps_of(way)], Fraction(0)) for tie in web[2]]
+
+
+def plain_got(wishes, plan):
+    return [sum([fraction(ratio) for way, ratio in plan if (way[0], way[-1]) == wish[:2]], Fraction(0)) for wish in wishes]
+
+
+def does_fit(web, plan):
+    return all([load <= tie[2] for load, tie in zip(plain_loads(web, plan), web[2])])
+
+
+def does_serve(wishes, plan):
+    return plain_got(wishes, plan) == [wish[2] for wish in wishes]
+
+
+def is_sound(web, wishes, plan):
+    """Whether a value is a plan that was made well, by a look at all ways."""
+    ways = [way for wish in wishes for way in all_ways(web, wish[0], wish[1])]
+    sound = [type(row) is tuple and len(row) == 2 and row[0] in ways for row in plan]
+    sound += [ratio_of(fraction(ratio)) == ratio and ratio[0] > 0 for _, ratio in plan]
+    told = [way for way, _ in plan]
+    return type(plan) is tuple and all(sound) and told == sorted(set(told))
+
+
+def some_lengths(numbers, web, most):
+    return tuple([numbers.below(most + 1) for _ in web[2]])

@@ -70,7 +70,8 @@ class Interface(unittest.TestCase):
                 values = good_values(parameters)
                 with self.subTest(name):
                     self.assertIs(function(*values), True)
-                wrongs = samples.STRANGE + samples.NOT_WEBS + samples.NOT_WISHES + samples.NOT_RATIOS
+                wrongs = (samples.NOT_WEBS + samples.NOT_WISHES + samples.NOT_RATIOS + samples.NOT_LENGTHS
+                          + samples.NOT_DISTANCES + samples.NOT_SHARINGS + samples.NOT_PLANS)
                 for value in wrongs:
                     with self.subTest(name, at=at, value=repr(type(value))):
                         self.assertIs(type(function(*values[:at], value, *values[at + 1:])), bool)

@@ -9,7 +9,8 @@ import unittest
 # Doctest leaves a `_` among the builtins.
 TAKEN = [name for name in dir(builtins) if name != "_"]
 PACKAGE = pathlib.Path(__file__).parent.parent / "wishways"
-LIBRARY = {"math": {"gcd", "lcm", "isqrt", "comb", "perm", "factorial"}, "itertools": {"product", "combinations", "permutations"}}
+LIBRARY = {"math": {"gcd", "lcm", "isqrt", "comb", "perm", "factorial"}, "itertools": {"product", "combinations", "permutations"},
+           "heapq": {"heappush", "heappop"}}
 BUILTINS = """len range enumerate zip min max sum abs sorted reversed int str bool bytes list tuple dict set isinstance
     ord repr any all divmod ValueError LookupError RuntimeError ArithmeticError KeyError""".split()
 METHODS = """append clear copy count endswith extend find get index insert isalnum isalpha isdigit islower isspace isupper
@@ -194,7 +195,7 @@ class Language(unittest.TestCase):
                 if isinstance(node, (ast.For, ast.comprehension)):
                     let.append(node.iter)
                 if isinstance(node, ast.Call) and isinstance(node.func, ast.Name) and node.func.id in (
-                        "list", "tuple", "sorted", "sum", "any", "all"):
+                        "list", "tuple", "dict", "sorted", "sum", "any", "all", "combinations", "product"):
                     let.extend(node.args[:1])
             for node in ast.walk(tree):
                 if isinstance(node, ast.Call) and isinstance(node.func, ast.Name) and node.func.id in (

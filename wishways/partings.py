@@ -12,11 +12,16 @@ def cuts_of_many(many):
     return sorted(lots)[1:]
 
 
-def is_cut(web, value):
-    """Whether any value is a cut of the web."""
+def is_cut_of_many(many, value):
+    """Whether any value is a cut of so many places."""
     if not isinstance(value, tuple) or len(value) == 0 or not are_integers(value) or not is_rising(value):
         return False
-    return value[0] >= 1 and value[-1] < web[1]
+    return value[0] >= 1 and value[-1] < many
+
+
+def is_cut(web, value):
+    """Whether any value is a cut of the web."""
+    return is_cut_of_many(web[1], value)
 
 
 def check_cut(web, cut):

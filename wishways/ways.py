@@ -2,7 +2,7 @@
 
 from wishways.basics import are_integers
 from wishways.errors import InvalidWay
-from wishways.webs import check_web
+from wishways.webs import check_place, check_web
 
 
 def tie_positions(web):
@@ -24,6 +24,27 @@ def is_way(web, value):
     return len(set(value)) == len(value) and are_steps(web, value)
 
 
+def longer_ways(positions, way, many):
+    """The list of the ways by one more place, of so many, than a tuple of places that has none twice."""
+    return [way + (place,) for place in range(many)
+            if place not in way and (min(way[-1], place), max(way[-1], place)) in positions]
+
+
+def ways_of(web, one, other):
+    """The sorted list of all ways from one to other."""
+    check_web(web)
+    check_place(web, one)
+    check_place(web, other)
+    positions = tie_positions(web)
+    found = []
+    ahead = [(one,)] if one != other else []
+    while ahead:
+        ways = longer_ways(positions, ahead.pop(), web[1])
+        found.extend([way for way in ways if way[-1] == other])
+        ahead.extend([way for way in ways if way[-1] != other])
+    return sorted(found)
+
+
 def signed_steps(web, way):
     """The list, step by step, of tuples (position of the tie, 1 towards its greater place or -1)."""
     positions = tie_positions(web)
@@ -31,8 +52,13 @@ def signed_steps(web, way):
             for one, other in zip(way, way[1:])]
 
 
+def positions_along(web, way):
+    """The tuple of the positions of the ties along a way that is one."""
+    return tuple([at for at, _ in signed_steps(web, way)])
+
+
 def ties_of_way(web, way):
     """The tuple of the positions of the ties along a way."""
     if not is_way(web, way):
         raise InvalidWay(way)
-    return tuple([at for at, _ in signed_steps(web, way)])
+    return positions_along(web, way)
