@@ -2,8 +2,9 @@
 
 import samples
 from samples import KITE, LINE, RING
-from wishways import (apart, bounds, cuts, cutsums, cuttree, distances, errors, flows, leastcuts, lengths, parser, plans, printer,
-                      ratios, rows, served, solving, tables, tokens, uncrossing, ways, webs)
+from wishways import (apart, bounds, cuts, cutsums, cuttree, deciding, distances, errors, flows, fourplaces, hubs, kinds, leastcuts,
+                      lengths, papers, parser, plans, printer, ratios, rows, served, solving, tables, tokens, turned, twopairs,
+                      uncrossing, ways, webs)
 
 ASK = ((0, 2, 5),)
 FLOW, TREE = (1, 0, 0, 1, 0), ((0, 1, 3), (1, 2, 3), (2, 3, 3))
@@ -11,6 +12,7 @@ TWO, POINT = ("table", ((1, 1), (1, 0)), (4, 3), (3, 2)), ((3, 1), (1, 1))
 CUT_TABLE, SHARING = [[0, 2, 3], [2, 0, 3], [3, 3, 0]], (((1,), (1, 1)), ((1, 2), (1, 1)), ((2,), (2, 1)))
 BOTH_TABLE = distances.distances(samples.BOTH, (1,) * 6)
 FULL = (((0, 1, 3), (1, 1)), ((0, 2, 3), (2, 1)))
+FITTING = (((0, 1, 2, 3), (1, 1)), ((0, 1, 3), (1, 1)), ((0, 2, 3), (1, 1)))
 
 # The kinds of parameters: the error that is raised, and values for which it is.
 WRONG = {
@@ -46,10 +48,19 @@ WRONG = {
     "sharing": (errors.InvalidSharing, samples.NOT_SHARINGS),
     "plan": (errors.InvalidPlan, samples.NOT_PLANS),
     "ratio above 0": (errors.InvalidRatio, samples.NOT_RATIOS + [(0, 1), (-1, 2), (-3, 1)]),
+    "paper": (errors.InvalidPaper, samples.NOT_PAPERS),
+    "paper that bars": (errors.InvalidPaper, samples.NOT_PAPERS),
+    "plan that serves": (errors.InvalidPlan, samples.NOT_PLANS + [(), (((0, 1, 3), (1, 1)),), (((0, 1, 3), (4, 1)),)]),
+    "lesser wishes": (errors.InvalidWishes, samples.NOT_WISHES + [((0, 3, 4),), ((0, 2, 1),), ((0, 2, 1), (0, 3, 3)), ((0, 4, 1),)]),
+    "surplus": (errors.InvalidSurplus, samples.NOT_SURPLUSES),
+    "turning": (errors.InvalidTurning, samples.NOT_TURNINGS),
+    "sum turning": (errors.InvalidTurning, samples.NOT_TURNINGS + [(2, 0, 0, -2), (2, 0, 2, 0)]),
+    "difference turning": (errors.InvalidTurning, samples.NOT_TURNINGS + [(0, 2, 2, 0), (2, 0, 0, 0)]),
+    "pairs": (errors.InvalidPairs, samples.NOT_PAIRS),
 }
 
 # The kinds for which the document says list, so that a tuple is accepted as well.
-LISTED = ["ratios", "ties", "asked", "order", "side", "cuts", "laminar cuts", "distance table"]
+LISTED = ["ratios", "ties", "asked", "order", "side", "cuts", "laminar cuts", "distance table", "surplus"]
 
 STAGE_1 = [
     (ratios, "is_ratio", [("value", (1, 2), "any")]),
@@ -192,4 +203,48 @@ STAGE_3 = [
     (served, "barring_lengths", [WEB, WISHES]),
 ]
 
-CALLS = STAGE_1 + STAGE_2 + STAGE_3
+WIDE, CROSS = ("web", samples.WIDE, "web"), ("wishes", ((0, 2, 2), (1, 3, 2)), "wishes of four")
+SURPLUS, PAIRS = ("surplus", [2, 0, -2, 0], "surplus"), ("pairs", ((0, 1), (0, 2), (3, 4)), "pairs")
+
+STAGE_4 = [
+    (papers, "is_paper", [WEB, PLAIN, ("value", ("plan", FITTING), "any")]),
+    (papers, "does_paper_serve", [WEB, PLAIN, ("paper", ("plan", FITTING), "paper")]),
+    (papers, "sides", [WEB, PLAIN, ("paper", ("plan", FITTING), "paper")]),
+    (papers, "as_lengths", [WEB, ("wishes", ((0, 3, 4),), "wishes of four"), ("paper", ("cut", (1, 2, 3)), "paper that bars")]),
+    (papers, "is_lesser", [WEB, PLAIN, ("value", ((0, 3, 2),), "any")]),
+    (papers, "trimmed", [WEB, PLAIN, ("plan", FULL, "plan that serves"), ("later", ((0, 3, 2),), "lesser wishes")]),
+    (papers, "is_share_paper", [WEB, PLAIN, ("value", ("share", (1, 1), FITTING, (1, 1, 0, 0, 0)), "any")]),
+    (deciding, "reason", [WEB, WISHES]),
+    (deciding, "is_served", [WEB, PLAIN]),
+    (deciding, "decided", [WEB, WISHES]),
+    (deciding, "share_paper", [WEB, WISHES]),
+    (deciding, "greatest_times", [WEB, PLAIN]),
+    (turned, "is_turning", [WIDE, ("value", (2, 0, -2, 0), "any")]),
+    (turned, "surplus_of", [WIDE, ("turning", (2, 0, -2, 0), "turning")]),
+    (turned, "is_turned", [WIDE, SURPLUS, ("value", (0, 2, 0, -2), "any")]),
+    (turned, "turned", [WIDE, SURPLUS]),
+    (turned, "turned_bar", [WIDE, SURPLUS]),
+    (twopairs, "odd_places", [WIDE, CROSS]),
+    (twopairs, "is_even", [WIDE, CROSS]),
+    (twopairs, "surpluses", [WIDE, CROSS]),
+    (twopairs, "both_turned", [WIDE, CROSS]),
+    (twopairs, "plan_by", [WIDE, CROSS, ("first", (0, 2, 2, 0), "sum turning"), ("second", (2, 0, 0, -2), "difference turning")]),
+    (twopairs, "two_answer", [WIDE, CROSS]),
+    (hubs, "hubs_of", [PAIRS]),
+    (hubs, "hub_pairs", [PAIRS]),
+    (hubs, "made_two", [WIDE, CROSS]),
+    (hubs, "plan_by_hubs", [WIDE, CROSS]),
+    (fourplaces, "four_of", [PAIRS]),
+    (fourplaces, "ring_of", [PAIRS]),
+    (fourplaces, "are_good", [PAIRS]),
+    (fourplaces, "told_by_cuts", [WIDE, CROSS]),
+    (fourplaces, "is_by_cuts", [WIDE, ("wishes", ((0, 2, 9),), "wishes of four"), ("value", ("cut", (1, 2)), "any")]),
+    (kinds, "apart_threes", [PAIRS]),
+    (kinds, "rings_of_three", [PAIRS]),
+    (kinds, "besides", [PAIRS]),
+    (kinds, "kind_of", [PAIRS]),
+    (kinds, "bad_parts", [PAIRS]),
+    (kinds, "greatest_good_parts", [PAIRS]),
+]
+
+CALLS = STAGE_1 + STAGE_2 + STAGE_3 + STAGE_4

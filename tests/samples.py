@@ -37,6 +37,8 @@ LINE = ("web", 3, ((0, 1, 3), (1, 2, 4)))
 RING = ("web", 4, ((0, 1, 2), (0, 3, 1), (1, 2, 1), (2, 3, 2)))
 KITE = ("web", 4, ((0, 1, 2), (0, 2, 1), (1, 2, 1), (1, 3, 1), (2, 3, 2)))
 BOTH = ("web", 5, ((0, 2, 1), (0, 3, 1), (0, 4, 1), (1, 2, 1), (1, 3, 1), (1, 4, 1)))
+SQUARE = ("web", 4, ((0, 1, 1), (0, 3, 1), (1, 2, 1), (2, 3, 1)))
+WIDE = ("web", 4, ((0, 1, 2), (0, 3, 2), (1, 2, 2), (2, 3, 2)))
 WHEEL = ("web", 8, ((0, 1, 3), (0, 2, 20), (0, 3, 1), (0, 4, 2), (0, 5, 7), (0, 6, 1), (0, 7, 4),
                     (1, 2, 5), (1, 7, 1), (2, 3, 9), (3, 4, 1), (4, 5, 2), (5, 6, 20), (6, 7, 3)))
 
@@ -67,6 +69,16 @@ def some_wishes(numbers, many):
     pairs = list(combinations(range(many), 2))
     chosen = [pairs.pop(numbers.below(len(pairs))) for _ in range(1 + numbers.below(min(6, len(pairs))))]
     return tuple(sorted([(one, other, 1 + numbers.below(20)) for one, other in chosen]))
+
+
+def some_pairs(numbers, many):
+    pairs = list(combinations(range(many), 2))
+    return tuple(sorted([pairs.pop(numbers.below(len(pairs))) for _ in range(1 + numbers.below(min(6, len(pairs))))]))
+
+
+def asked_by(numbers, pairs, most):
+    """Wishes of the pairs, each at most so much."""
+    return tuple([pair + (1 + numbers.below(most),) for pair in pairs])
 
 
 def some_webs(count, seed=1):
@@ -199,6 +211,23 @@ NOT_PLANS = NOT_EMPTY + [
     (((0, True, 3), (1, 1)),), (((False, 1, 3), (1, 1)),), (((0, 1, 4), (1, 1)),), ((None, (1, 1)),), (((0, 1, 3), None),),
     ((TOUCHY, (1, 1)),), (((0, 1, 3), TOUCHY),), (((0, 1, 3), [1, 1]),), (((0,), (1, 1)),), (((), (1, 1)),), (((1, 3), (1, 1)),),
     {(0, 1, 3): (1, 1)}, {((0, 1, 3), (1, 1))}]
+
+
+# No papers of KITE with a wish of 3, nor with one of 4, of the places 0 and 3.
+NOT_PAPERS = STRANGE + [
+    ["cut", (1, 2, 3)], ("cut", (3,), ()), ("cut",), ("cat", (1, 2, 3)), (b"cut", (1, 2, 3)), ("cut", (1,)), ("cut", (0,)), ("cut", [1, 2, 3]),
+    ("cut", (True, 2, 3)), ("cut", None), ("cut", TOUCHY), ("plan", ()), ("plan", None), ("plan", TOUCHY), ("plan", [((0, 1, 3), (3, 1))]),
+    ("plan", (((0, 1, 3), (3, 1)),)), ("plan", (((0, 1, 3), (1, 1)), ((0, 2, 3), (1, 1)))), ("lengths", (0,) * 5), ("lengths", (0, 0, 1, 0, 0)),
+    ("lengths", [1, 1, 0, 0, 0]), ("lengths", (1, 1, 0, 0)), ("lengths", None), ("lengths", TOUCHY), ("plans", ()), (("cut",), (1, 2, 3)),
+    ("share", (1, 1), (((0, 1, 3), (1, 1)), ((0, 2, 3), (2, 1))), (1, 1, 0, 0, 0))]
+# No surpluses, no turnings of WIDE.
+NOT_SURPLUSES = STRANGE + [[0] * 3, [0] * 5, (0,) * 3, [1, 0, 0, 0], [2, 0, -2, 1], [True, -1, 0, 0], [0, 0, 0, False], [1, -1, None, 0],
+                           [0, 0, 0, "0"], {0: 0, 1: 0, 2: 0, 3: 0}, {0, 1, 2, 3}, "0000", range(4), [TOUCHY] * 4, [[0], [0], [0], [0]]]
+NOT_TURNINGS = STRANGE + [[0, 0, 0, 0], (0,) * 3, (0,) * 5, (1, 0, 0, 0), (0, 0, 0, -1), (4, 0, 0, 0), (0, -4, 0, 0), (0, 0, False, 0),
+                          (0, True, 0, 0), (0, 0, None, 0), (0, 0, 0, "0"), "0000", (TOUCHY,) * 4, (0, 0, (0,), 0), range(4)]
+NOT_PAIRS = STRANGE + [[(0, 1)], ([0, 1],), ((0, 1, 1),), ((0,),), ((1, 0),), ((1, 1),), ((0, 8),), ((-1, 1),), ((0, True),), ((False, 1),),
+                       ((0, 2), (0, 1)), ((0, 1), (0, 1)), tuple([(0, place) for place in range(1, 8)]), ((0, None),), ((0, "1"),),
+                       {(0, 1)}, {(0, 1): 1}, ((0, 1), None), "01", ((TOUCHY, 1),), ((0, 1), TOUCHY), (0, 1)]
 
 
 def fraction(ratio):

@@ -4,14 +4,8 @@ from wishways.basics import are_integers, is_tuple_of, is_within
 from wishways.errors import InvalidFlow, InvalidWish
 from wishways.leastcuts import least_cut, least_room
 from wishways.partings import sum_across
-from wishways.pushing import grown_flow, parted
+from wishways.pushing import at_most, grown_flow, more_away, parted
 from wishways.webs import check_two
-
-
-def gone_from(web, flow, place):
-    """How much more goes away from the place than comes to it."""
-    away = sum([much for tie, much in zip(web[2], flow) if tie[0] == place])
-    return away - sum([much for tie, much in zip(web[2], flow) if tie[1] == place])
 
 
 def is_flow(web, one, other, value):
@@ -21,14 +15,14 @@ def is_flow(web, one, other, value):
         return False
     if any([abs(much) > tie[2] for tie, much in zip(web[2], value)]):
         return False
-    return all([gone_from(web, value, place) == 0 for place in range(web[1]) if place not in (one, other)])
+    return all([more_away(web, value, place) == 0 for place in range(web[1]) if place not in (one, other)])
 
 
 def value_of(web, one, other, flow):
     """How much more goes away from one than comes to it."""
     if not is_flow(web, one, other, flow):
         raise InvalidFlow(flow)
-    return gone_from(web, flow, one)
+    return more_away(web, flow, one)
 
 
 def greatest_flow(web, one, other):
@@ -39,7 +33,7 @@ def greatest_flow(web, one, other):
 
 def is_greatest(web, one, other, value):
     """Whether any value is a greatest flow from one to other."""
-    return is_flow(web, one, other, value) and gone_from(web, value, one) == least_room(web, one, other)
+    return is_flow(web, one, other, value) and more_away(web, value, one) == least_room(web, one, other)
 
 
 def ways_of_flow(web, one, other):
@@ -56,17 +50,6 @@ def flow_plan(web, one, other):
     """A plan in wholes that gives the pair as much as a greatest flow's value."""
     check_two(web, one, other)
     return plan_of(ways_of_flow(web, one, other))
-
-
-def at_most(parts, wish):
-    """The parts, in their sequence, as far as they come to the wish; the last one perhaps lessened."""
-    taken = []
-    left = wish
-    for way, much in parts:
-        if left > 0:
-            taken.append((way, min(much, left)))
-            left -= much
-    return taken
 
 
 def pair_answer(web, one, other, wish):

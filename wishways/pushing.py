@@ -31,6 +31,12 @@ def led_back(came, other):
     return tuple(way[::-1])
 
 
+def more_away(web, flow, place):
+    """How much more goes away from the place than comes to it."""
+    away = sum([much for tie, much in zip(web[2], flow) if tie[0] == place])
+    return away - sum([much for tie, much in zip(web[2], flow) if tie[1] == place])
+
+
 def left_open(web, flow):
     """What each tie's room lets go beyond the flow, either way; what comes the other way can be sent back, too."""
     return [(tie[2] - much, tie[2] + much) for tie, much in zip(web[2], flow)]
@@ -50,7 +56,10 @@ def grown_flow(web, one, other):
 
 
 def parted(web, flow, one, other):
-    """The list of tuples (way, much) into which a flow is parted, no way twice; what goes round in it is left out."""
+    """The list of tuples (way, much) into which a flow is parted, no way twice.
+
+    What goes round in it is left out; but by rounds through one or other the ways may come to more than the value.
+    """
     rest = list(flow)
     parts = []
     way = open_way(web, [(much, -much) for much in rest], one, other)
@@ -63,3 +72,14 @@ def parted(web, flow, one, other):
         parts.append((way, most))
         way = open_way(web, [(much, -much) for much in rest], one, other)
     return parts
+
+
+def at_most(parts, wish):
+    """The parts, in their sequence, as far as they come to the wish; the last one perhaps lessened."""
+    taken = []
+    left = wish
+    for way, much in parts:
+        if left > 0:
+            taken.append((way, min(much, left)))
+            left -= much
+    return taken

@@ -1,7 +1,7 @@
 """Webs, wishes and pairs: what they are, how they are made, and what is told of them at once."""
 
 from wishways.basics import are_integers, is_headed, is_listed, is_rising, is_tuple_of, is_within
-from wishways.errors import InvalidMany, InvalidOrder, InvalidPlace, InvalidRows, InvalidTies, InvalidWeb
+from wishways.errors import InvalidMany, InvalidOrder, InvalidPairs, InvalidPlace, InvalidRows, InvalidTies, InvalidWeb
 from wishways.errors import InvalidWishes
 from wishways.links import are_joined, far_end
 
@@ -45,7 +45,12 @@ def is_pairs(value):
 
 def is_traffic(value, other):
     """Whether any values are a web and wishes of it."""
-    return is_web(value) and are_rows(other, MOST_WISHES, value[1])
+    return is_web(value) and are_wishes(value, other)
+
+
+def are_wishes(web, value):
+    """Whether any value is wishes of a web that is one."""
+    return are_rows(value, MOST_WISHES, web[1])
 
 
 def check_web(web):
@@ -55,13 +60,18 @@ def check_web(web):
 
 def check_wishes(web, wishes):
     """Wishes of a web that is one."""
-    if not are_rows(wishes, MOST_WISHES, web[1]):
+    if not are_wishes(web, wishes):
         raise InvalidWishes(wishes)
 
 
 def check_traffic(web, wishes):
     check_web(web)
     check_wishes(web, wishes)
+
+
+def check_pairs(pairs):
+    if not is_pairs(pairs):
+        raise InvalidPairs(pairs)
 
 
 def check_place(web, place):
@@ -142,6 +152,11 @@ def pairs_of(wishes):
     if not is_wishes(wishes):
         raise InvalidWishes(wishes)
     return tuple([wish[:2] for wish in wishes])
+
+
+def members_of(pairs):
+    """The rising list of the places that the pairs have."""
+    return sorted(set([place for pair in pairs for place in pair]))
 
 
 def is_order(web, value):
