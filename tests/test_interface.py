@@ -54,7 +54,8 @@ class Interface(unittest.TestCase):
                     ahead, behind = good_values(parameters[:at]), good_values(parameters[at + 1:])
                     later = [kept if row[2] == "any" else samples.TOUCHY
                              for kept, row in zip(behind, parameters[at + 1:])]
-                    for rest in (behind, later):
+                    judged = [None if row[2] == "any" else kept for kept, row in zip(behind, parameters[at + 1:])]
+                    for rest in (behind, later, judged):
                         with self.subTest(name, at=at, value=repr(type(value))):
                             with self.assertRaises(error) as caught:
                                 function(*ahead, value, *rest)

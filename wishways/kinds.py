@@ -15,13 +15,15 @@ def are_apart(pair, other):
 def apart_threes(pairs):
     """The sorted list of the tuples of three pairs, rising, each two of them apart."""
     check_pairs(pairs)
-    return [(one, two, three) for one, two, three in combinations(pairs, 3)
+    rows = list(pairs)
+    return [(one, two, three) for one, two, three in combinations(rows, 3)
             if are_apart(one, two) and are_apart(one, three) and are_apart(two, three)]
 
 
 def sides_of(ring):
     """The rising tuple of the pairs of a ring of three."""
-    return tuple([(one, other) for one, other in combinations(ring, 2)])
+    one, two, three = ring
+    return ((one, two), (one, three), (two, three))
 
 
 def rings_of_three(pairs):
@@ -63,9 +65,10 @@ def bad_parts(pairs):
 
 def good_parts(pairs):
     """The list of all parts that are good."""
+    rows = list(pairs)
     parts = []
-    for many in range(1, len(pairs) + 1):
-        parts.extend([part for part in combinations(pairs, many) if are_good(part)])
+    for many in range(1, len(rows) + 1):
+        parts.extend([part for part in combinations(rows, many) if are_good(part)])
     return parts
 
 
