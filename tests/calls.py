@@ -2,9 +2,9 @@
 
 import samples
 from samples import KITE, LINE, RING
-from wishways import (apart, bounds, cuts, cutsums, cuttree, deciding, distances, errors, flows, fourplaces, hubs, kinds, leastcuts,
-                      lengths, papers, parser, plans, printer, ratios, rows, served, solving, tables, tokens, turned, twopairs,
-                      uncrossing, ways, webs)
+from wishways import (apart, barwebs, bounds, cuts, cutsums, cuttree, deciding, distances, duals, errors, faces, flats, flows, fourplaces,
+                      hubs, kinds, leastcuts, lengths, papers, parser, plans, printer, ratios, rimcuts, rims, rimways, rows, served,
+                      solving, tables, tokens, turned, twopairs, uncrossing, ways, webs)
 
 ASK = ((0, 2, 5),)
 FLOW, TREE = (1, 0, 0, 1, 0), ((0, 1, 3), (1, 2, 3), (2, 3, 3))
@@ -57,6 +57,15 @@ WRONG = {
     "sum turning": (errors.InvalidTurning, samples.NOT_TURNINGS + [(2, 0, 0, -2), (2, 0, 2, 0)]),
     "difference turning": (errors.InvalidTurning, samples.NOT_TURNINGS + [(0, 2, 2, 0), (2, 0, 0, 0)]),
     "pairs": (errors.InvalidPairs, samples.NOT_PAIRS),
+    "flat": (errors.InvalidFlat, samples.NOT_FLATS),
+    "points": (errors.InvalidPoints, samples.NOT_POINTS),
+    "neighbour of 0": (errors.InvalidPlace, samples.NOT_PLACES + [4, 5, 0, 3]),
+    "joined cut": (errors.InvalidCut, samples.NOT_CUTS + [(4,), (1, 2, 3, 4), (1, 2), (1, 1)]),
+    "circuit": (errors.InvalidCircuit, samples.NOT_CIRCUITS),
+    "inner face": (errors.InvalidPosition, samples.NOT_PLACES + [0, 3, 4]),
+    "rim wishes": (errors.InvalidWishes, samples.NOT_WISHES + [((1, 6, 1),), ((0, 5, 1),), ((0, 1, 1), (2, 3, 1))]),
+    "step": (errors.InvalidStep, samples.NOT_STEPS),
+    "later step": (errors.InvalidStep, samples.NOT_STEPS + [0, 1]),
 }
 
 # The kinds for which the document says list, so that a tuple is accepted as well.
@@ -247,4 +256,44 @@ STAGE_4 = [
     (kinds, "greatest_good_parts", [PAIRS]),
 ]
 
-CALLS = STAGE_1 + STAGE_2 + STAGE_3 + STAGE_4
+FLAT, BAD = ("flat", samples.FLAT_KITE, "flat"), ("pairs", ((0, 1), (2, 3), (4, 5)), "pairs")
+FACE, STEP, LATER = ("position", 1, "inner face"), ("step", 1, "step"), ("later", 3, "later step")
+# The place 3 stands within the ring of all others.
+FOUR, RIM = ("flat", samples.FLAT_FOUR, "flat"), ("wishes", ((0, 1, 2), (0, 2, 3)), "rim wishes")
+
+STAGE_5 = [
+    (barwebs, "bar_traffic", [BAD]),
+    (barwebs, "bar_lengths", [BAD]),
+    (barwebs, "enough", [PAIRS]),
+    (barwebs, "is_enough", [PAIRS, ("value", ("good", ("hubs", (0, 3))), "any")]),
+    (flats, "is_flat", [("value", samples.FLAT_KITE, "any")]),
+    (flats, "flat_by_points", [WEB, ("points", samples.GOOD_POINTS, "points")]),
+    (flats, "mirrored", [FLAT]),
+    (flats, "rim_places", [FLAT]),
+    (faces, "faces_of", [FLAT]),
+    (faces, "face_left", [FLAT, ONE, ("other", 2, "neighbour of 0")]),
+    (faces, "inner_faces", [FLAT]),
+    (duals, "turned_web", [FLAT]),
+    (duals, "is_joined_cut", [WEB, ("cut", (2,), "cut")]),
+    (duals, "joined_cuts", [WEB]),
+    (duals, "circuit_of_cut", [FLAT, ("cut", (1,), "joined cut")]),
+    (duals, "cut_of_circuit", [FLAT, ("circuit", (0, 1), "circuit")]),
+    (duals, "is_circuit", [FLAT, ("value", (0, 1), "any")]),
+    (duals, "circuits", [FLAT]),
+    (duals, "face_distances", [FLAT, FACE]),
+    (duals, "face_path", [FLAT, FACE, ("other", 2, "inner face")]),
+    (rims, "is_rim_traffic", [("value", samples.FLAT_FOUR, "any"), ("other", ((0, 1, 2), (0, 2, 3)), "any")]),
+    (rims, "rim_steps", [FLAT]),
+    (rims, "between", [FLAT, STEP, LATER]),
+    (rims, "do_meet", [FLAT, STEP, LATER]),
+    (rimcuts, "rim_room", [FLAT, STEP, LATER]),
+    (rimcuts, "rim_cut", [FLAT, STEP, LATER]),
+    (rimcuts, "rim_wish", [FLAT, ("wishes", ((0, 3, 2),), "wishes of four"), STEP, LATER]),
+    (rimcuts, "rim_rows", [FOUR, RIM]),
+    (rimcuts, "rim_over_asked", [FOUR, RIM]),
+    (rimways, "rim_served", [FOUR, RIM]),
+    (rimways, "rim_plan", [FOUR, RIM]),
+    (rimways, "rim_paper", [FOUR, RIM]),
+]
+
+CALLS = STAGE_1 + STAGE_2 + STAGE_3 + STAGE_4 + STAGE_5

@@ -1,6 +1,7 @@
 """What the tests have in common: webs made without chance, plain looks at them, and values of any kind."""
 
 import functools
+import math
 from fractions import Fraction
 from itertools import combinations
 
@@ -293,3 +294,140 @@ def is_sound(web, wishes, plan):
 
 def some_lengths(numbers, web, most):
     return tuple([numbers.below(most + 1) for _ in web[2]])
+
+
+# Flat webs: a kite, two places, a web that falls apart at its place 1, and all four places tied to each other.
+FLAT_KITE = ("flat", KITE, ((1, 2), (0, 3, 2), (0, 1, 3), (1, 2)), (0, 1, 3, 2))
+FLAT_PAIR = ("flat", ("web", 2, ((0, 1, 3),)), ((1,), (0,)), (0, 1))
+FLAT_BOW = ("flat", ("web", 6, ((0, 1, 1), (0, 2, 2), (1, 2, 3), (1, 3, 2), (1, 4, 1), (3, 4, 2), (4, 5, 3))),
+            ((1, 2), (0, 3, 4, 2), (0, 1), (1, 4), (1, 3, 5), (4,)), (0, 1, 3, 4, 5, 4, 1, 2))
+FLAT_FOUR = ("flat", ("web", 4, ((0, 1, 1), (0, 2, 2), (0, 3, 3), (1, 2, 4), (1, 3, 5), (2, 3, 6))),
+             ((1, 2, 3), (0, 3, 2), (0, 1, 3), (0, 2, 1)), (0, 2, 1))
+# No flat webs, around FLAT_KITE.
+NOT_FLATS = STRANGE + [
+    list(FLAT_KITE), FLAT_KITE[:3], FLAT_KITE + ((),), ("flut",) + FLAT_KITE[1:], (b"flat",) + FLAT_KITE[1:], (TOUCHY,) + FLAT_KITE[1:],
+    ("flat", TOUCHY) + FLAT_KITE[2:], FLAT_KITE[:2] + (TOUCHY,) + FLAT_KITE[3:], FLAT_KITE[:3] + (TOUCHY,),
+    FLAT_KITE[:3] + ((TOUCHY,) * 4,), FLAT_KITE[:3] + ((),), FLAT_KITE[:3] + ([0, 1, 3, 2],), FLAT_KITE[:3] + ((1, 3, 2, 0),),
+    FLAT_KITE[:3] + ((0, 2, 3, 1),), FLAT_KITE[:3] + ((False, 1, 3, 2),), FLAT_KITE[:3] + ((0, True, 3, 2),), FLAT_KITE[:3] + (None,),
+    FLAT_KITE[:2] + ([(1, 2), (0, 3, 2), (0, 1, 3), (1, 2)],) + FLAT_KITE[3:], FLAT_KITE[:2] + (((1, 2), (0, 3, 2), (0, 1, 3)),) + FLAT_KITE[3:],
+    FLAT_KITE[:2] + (((2, 1), (0, 3, 2), (0, 1, 3), (1, 2)),) + FLAT_KITE[3:],
+    FLAT_KITE[:2] + (((1, 2), (0, 2, 3), (0, 1, 3), (1, 2)),) + FLAT_KITE[3:],
+    FLAT_KITE[:2] + (((1, 2), (0, 3, 2), (0, 1, 3), (1,)),) + FLAT_KITE[3:], FLAT_KITE[:2] + (((1, 2), (0, 3, 2), (0, 1, 3), (1, 2, 2)),) + FLAT_KITE[3:],
+    FLAT_KITE[:2] + (((1, 2), (0, 3, 2), (0, 1, 3), (1, 0)),) + FLAT_KITE[3:], FLAT_KITE[:2] + (((1, 2), (0, 3, 2), (0, 1, 3), [1, 2]),) + FLAT_KITE[3:],
+    FLAT_KITE[:2] + (((1, 2), (False, 3, 2), (0, 1, 3), (1, 2)),) + FLAT_KITE[3:], FLAT_KITE[:2] + (((1, 2), (0, 3, 2), (0, 1, 3), TOUCHY),) + FLAT_KITE[3:],
+    FLAT_KITE[:2] + (((1, 2), (0, 3, 2), (0, 1, 3), (1, TOUCHY)),) + FLAT_KITE[3:], FLAT_KITE[:2] + (((1, 2), (0, 3, 2), (0, 1, 3), (1, None)),) + FLAT_KITE[3:],
+    ("flat", LINE) + FLAT_KITE[2:], ("flat", ["web"], (), ()), ("flat", FLAT_KITE, (), ())]
+# No points of KITE, and points that do not draw it.
+GOOD_POINTS = ((0, 0), (0, 2), (2, 0), (2, 2))
+NOT_POINTS = STRANGE + [
+    list(GOOD_POINTS), GOOD_POINTS[:3], GOOD_POINTS + ((3, 3),), ((0, 0), (0, 2), (2, 0), [2, 2]), ((0, 0), (0, 2), (2, 0), (2, 2, 2)),
+    ((0, 0), (0, 2), (2, 0), (2,)), ((0, 0), (0, 2), (2, 0), (2, True)), ((False, 0), (0, 2), (2, 0), (2, 2)), ((0, 0), (0, 2), (2, 0), (2, None)),
+    ((0, 0), (0, 2), (2, 0), (2, 10001)), ((0, 0), (0, 2), (2, 0), (-10001, 2)), ((0, 0), (0, 2), (2, 0), TOUCHY), ((0, 0), (0, 2), (2, 0), (2, TOUCHY)),
+    ((0, 0), (0, 2), (2, 0), (0, 0)), ((0, 0), (0, 2), (2, 0), (2, 0)), ((0, 0), (0, 2), (2, 0), (1, 1)), ((1, 1), (0, 2), (2, 0), (2, 2)),
+    ((0, 0), (2, 0), (4, 0), (1, 3)), ((0, 0), (0, 2), (2, 2), (2, 0)), ((0, 0), (4, 0), (1, 3), (-1, 1)), "0000", ((0, 0),) * 4]
+# No circuits of FLAT_KITE.
+NOT_CIRCUITS = STRANGE + [[0, 1], (0,), (2,), (1, 0), (0, 0), (0, 3), (0, 1, 2), (0, 4, 2), (2, 0, 3), (0, 3, 2), (0, 2, 3, 4), (5,), (0, 5), (-1, 0),
+                          (False, 1), (0, True), (0, None), (0, 1, 3, 4), "01", (TOUCHY, 1), (0, TOUCHY)]
+NOT_STEPS = NOT_PLACES[:3] + [4, 9, 10 ** 39, None, "0", "", b"0", (), (0,), [0], {}, {0}, TOUCHY]
+
+
+def plain_meet(a, b, c, d):
+    """Whether two straight lines, from a to b and from c to d, have a point in common, by reckoning where it would be."""
+    u, v, w = (b[0] - a[0], b[1] - a[1]), (d[0] - c[0], d[1] - c[1]), (c[0] - a[0], c[1] - a[1])
+    under = u[0] * v[1] - u[1] * v[0]
+    if under != 0:
+        s, t = Fraction(w[0] * v[1] - w[1] * v[0], under), Fraction(w[0] * u[1] - w[1] * u[0], under)
+        return 0 <= s <= 1 and 0 <= t <= 1
+    if w[0] * u[1] != w[1] * u[0]:
+        return False
+    line, other = sorted([a, b]), sorted([c, d])
+    return line[0] <= other[1] and other[0] <= line[1]
+
+
+def does_plainly_draw(web, points):
+    if len(set(points)) < web[1]:
+        return False
+    pairs = [tie[:2] for tie in web[2]]
+    for one, other in pairs:
+        for place in range(web[1]):
+            if place not in (one, other) and plain_meet(points[one], points[other], points[place], points[place]):
+                return False
+    return not any([plain_meet(points[p[0]], points[p[1]], points[q[0]], points[q[1]])
+                    for p, q in combinations(pairs, 2) if not set(p) & set(q)])
+
+
+def some_points(numbers, many, wide):
+    """So many unlike points."""
+    points = []
+    while len(points) < many:
+        point = (numbers.below(wide), numbers.below(wide))
+        if point not in points:
+            points.append(point)
+    return tuple(points)
+
+
+def some_drawn(numbers, many, wide, most):
+    """A web and points that draw it, with rooms up to most."""
+    points = some_points(numbers, many, wide)
+    pairs, ties = list(combinations(range(many), 2)), []
+    while pairs:
+        pair = pairs.pop(numbers.below(len(pairs)))
+        if does_plainly_draw(("web", many, tuple(ties + [pair])), points):
+            ties.append(pair)
+    spare = numbers.below(len(ties) - many + 2)
+    for pair in list(ties):
+        left = [tie for tie in ties if tie != pair]
+        if (spare > 0 or len(ties) > 14) and plain_joined(list(range(many)), left):
+            ties, spare = left, spare - 1
+    return ("web", many, tuple(sorted([pair + (1 + numbers.below(most),) for pair in ties]))), points
+
+
+def plain_faces(rounds):
+    """The sorted list of the rings of steps, each told by the least of all its turnings."""
+    behind = {}
+    for other, circle in enumerate(rounds):
+        for at, one in enumerate(circle):
+            behind[(one, other)] = (other, (circle + circle)[at + 1])
+    faces = []
+    while behind:
+        ring, step = [], min(behind)
+        while step in behind:
+            ring.append(step[0])
+            step = behind.pop(step)
+        faces.append(min([tuple(ring[at:] + ring[:at]) for at in range(len(ring))]))
+    return sorted(faces)
+
+
+def plain_rounds(web, points):
+    """Rounds by the angles at which ties stand."""
+    rounds = []
+    for place in range(web[1]):
+        ends = sorted([one + other - place for one, other, _ in web[2] if place in (one, other)])
+        angle = {end: math.atan2(points[end][1] - points[place][1], points[end][0] - points[place][0]) for end in ends}
+        rounds.append(tuple(sorted(ends, key=lambda end: (angle[ends[0]] - angle[end]) % (2 * math.pi) if end != ends[0] else -1)))
+    return tuple(rounds)
+
+
+def some_flats(count, seed=1, most=6):
+    """Flat webs of all sizes, drawn, with any of their faces as the rim, most often that of the most places."""
+    numbers = Numbers(seed)
+    made = []
+    for at in range(count):
+        web, points = some_drawn(numbers, 2 + at % 7, 3 + numbers.below(4), most)
+        rounds = plain_rounds(web, points)
+        faces = plain_faces(rounds)
+        rim = faces[numbers.below(len(faces))] if at % 3 == 0 else max(faces, key=len)
+        made.append(("flat", web, rounds, rim))
+    return made
+
+
+def some_rim_traffic(count, seed=1, most=6):
+    """Flat webs with wishes at their rims."""
+    numbers = Numbers(seed)
+    made = []
+    for flat in some_flats(count, seed + 1, most):
+        places = sorted(set(flat[3]))
+        pairs = list(combinations(places, 2))
+        chosen = [pairs.pop(numbers.below(len(pairs))) for _ in range(min(len(pairs), 1 + numbers.below(4)))]
+        made.append((flat, asked_by(numbers, sorted(chosen), 1 + numbers.below(most))))
+    return made

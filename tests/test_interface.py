@@ -73,7 +73,8 @@ class Interface(unittest.TestCase):
                     self.assertIs(function(*values), True)
                 wrongs = (samples.NOT_WEBS + samples.NOT_WISHES + samples.NOT_RATIOS + samples.NOT_LENGTHS
                           + samples.NOT_DISTANCES + samples.NOT_SHARINGS + samples.NOT_PLANS + samples.NOT_PAPERS
-                          + samples.NOT_SURPLUSES + samples.NOT_TURNINGS + samples.NOT_PAIRS)
+                          + samples.NOT_SURPLUSES + samples.NOT_TURNINGS + samples.NOT_PAIRS + samples.NOT_FLATS
+                          + samples.NOT_POINTS + samples.NOT_CIRCUITS)
                 for value in wrongs:
                     with self.subTest(name, at=at, value=repr(type(value))):
                         self.assertIs(type(function(*values[:at], value, *values[at + 1:])), bool)

@@ -38,6 +38,15 @@ def is_rising(row):
     return all([low < high for low, high in zip(row, row[1:])])
 
 
+def is_same(value, told):
+    """Whether any value is just what is told: a string, an INTEGER, or a tuple of such."""
+    if isinstance(told, tuple):
+        return is_tuple_of(value, len(told)) and all([is_same(part, known) for part, known in zip(value, told)])
+    if isinstance(told, str):
+        return isinstance(value, str) and value == told
+    return is_integer(value) and value == told
+
+
 def check_text(text):
     if not isinstance(text, str):
         raise InvalidText(text)

@@ -8,6 +8,12 @@ def far_end(link, place):
     return link[0] if link[1] == place else None
 
 
+def ends_at(links, place):
+    """The rising list of the places that links join to the place."""
+    ends = [far_end(link, place) for link in links]
+    return sorted([end for end in ends if end is not None])
+
+
 def come_to(start, links):
     """The rising list of the places that can be come to from start, which is one of them."""
     found = {start: True}

@@ -3,7 +3,7 @@
 from wishways.basics import are_integers, is_headed, is_listed, is_rising, is_tuple_of, is_within
 from wishways.errors import InvalidMany, InvalidOrder, InvalidPairs, InvalidPlace, InvalidRows, InvalidTies, InvalidWeb
 from wishways.errors import InvalidWishes
-from wishways.links import are_joined, far_end
+from wishways.links import are_joined, ends_at, far_end
 
 MOST_PLACES = 8
 MOST_TIES = 14
@@ -126,8 +126,7 @@ def neighbours(web, place):
     """The rising list of the places tied to the place."""
     check_web(web)
     check_place(web, place)
-    ends = [far_end(tie, place) for tie in web[2]]
-    return sorted([end for end in ends if end is not None])
+    return ends_at(web[2], place)
 
 
 def summed_at(rows, place):
