@@ -2,9 +2,10 @@
 
 import samples
 from samples import KITE, LINE, RING
-from wishways import (apart, barwebs, bounds, cuts, cutsums, cuttree, deciding, distances, duals, errors, faces, flats, flows, fourplaces,
-                      hubs, kinds, leastcuts, lengths, papers, parser, plans, printer, ratios, rimcuts, rims, rimways, rows, served,
-                      solving, tables, tokens, turned, twopairs, uncrossing, ways, webs)
+from wishways import (apart, barwebs, bounds, cheapest, commands, cuts, cutsums, cuttree, deciding, distances, duals, errors, faces, flats,
+                      flows, fourplaces, hubs, kinds, leastcuts, lengths, marks, oddcuts, oddlots, papers, parser, plans, printer, ratios,
+                      records, rimcuts, rims, rimways, rows, served, solving, splitting, tables, tokens, turned, twopairs, uncrossing, ways,
+                      webs)
 
 ASK = ((0, 2, 5),)
 FLOW, TREE = (1, 0, 0, 1, 0), ((0, 1, 3), (1, 2, 3), (2, 3, 3))
@@ -66,6 +67,17 @@ WRONG = {
     "rim wishes": (errors.InvalidWishes, samples.NOT_WISHES + [((1, 6, 1),), ((0, 5, 1),), ((0, 1, 1), (2, 3, 1))]),
     "step": (errors.InvalidStep, samples.NOT_STEPS),
     "later step": (errors.InvalidStep, samples.NOT_STEPS + [0, 1]),
+    "marks": (errors.InvalidMarks, samples.NOT_MARKS),
+    "marked place": (errors.InvalidPlace, samples.NOT_PLACES + [1, 2, 4]),
+    "ties with rooms": (errors.InvalidTies, samples.NOT_ROOMY),
+    "place but 1": (errors.InvalidPlace, samples.NOT_PLACES + [1, 4, 5]),
+    "odd places": (errors.InvalidPlaces, samples.NOT_ODD_PLACES),
+    "lot": (errors.InvalidLot, samples.NOT_LOTS),
+    "packing": (errors.InvalidPacking, samples.NOT_PACKINGS),
+    "prices": (errors.InvalidPrices, samples.NOT_PRICES),
+    "tolls": (errors.InvalidTolls, samples.NOT_TOLLS),
+    "text of signs": (errors.InvalidText, samples.NOT_SIGNS),
+    "record": (errors.InvalidRecord, samples.NOT_RECORDS),
 }
 
 # The kinds for which the document says list, so that a tuple is accepted as well.
@@ -296,4 +308,58 @@ STAGE_5 = [
     (rimways, "rim_paper", [FOUR, RIM]),
 ]
 
-CALLS = STAGE_1 + STAGE_2 + STAGE_3 + STAGE_4 + STAGE_5
+MARKS, TIES = ("marks", (0, 3), "marks"), ("ties", KITE[2], "ties with rooms")
+SPLIT = [("place", 1, "place"), ("one", 0, "place but 1"), ("other", 2, "place but 1")]
+ODD, LOT = ("places", (0, 3), "odd places"), ("lot", (0, 3), "lot")
+PRICES, TOLLS = ("prices", (1, 9, 1, 2, 0), "prices"), ("tolls", samples.GOOD_TOLLS, "tolls")
+# KITE is inner even for these marks.
+MARK_PLAN, OWN = (((0, 1, 2, 3), 1), ((0, 1, 3), 1), ((0, 2, 3), 1)), ((1, 2, 3), (1, 2, 3))
+SHORT, PACKED = ("lengths", (1, 1, 1, 1, 1), "lengths"), (((1, 2, 3), (1, 1)), ((3,), (1, 1)))
+RECORD = "places 2\ntie 0 1 1\nwish 0 1 2\ncut 1\ncheck 968555\n"
+CHEAPEST = cheapest.cheapest(KITE, ((0, 3, 3),), (1, 9, 1, 2, 0))
+
+STAGE_6 = [
+    (marks, "is_marks", [WEB, ("value", (0, 3), "any")]),
+    (marks, "is_inner_even", [WEB, MARKS]),
+    (marks, "own_room", [WEB, MARKS, ("place", 3, "marked place")]),
+    (marks, "own_cut", [WEB, MARKS, ("place", 3, "marked place")]),
+    (marks, "own_sum", [WEB, MARKS]),
+    (marks, "is_mark_plan", [WEB, MARKS, ("value", MARK_PLAN, "any")]),
+    (marks, "is_most", [WEB, MARKS, ("value", MARK_PLAN, "any"), ("cuts", OWN, "any")]),
+    (splitting, "split_off", [WEB, TIES] + SPLIT),
+    (splitting, "keeps_own", [WEB, MARKS, TIES] + SPLIT),
+    (splitting, "marked_plan", [WEB, MARKS]),
+    (splitting, "most_cuts", [WEB, MARKS]),
+    (oddlots, "is_places", [WEB, ("value", (0, 3), "any")]),
+    (oddlots, "odd_in", [WEB, LOT]),
+    (oddlots, "is_odd_lot", [WEB, ODD, ("value", (0, 3), "any")]),
+    (oddlots, "all_odd_lots", [WEB, ODD]),
+    (oddlots, "lot_length", [WEB, LENGTHS, LOT]),
+    (oddlots, "least_lot_length", [WEB, LENGTHS, ODD]),
+    (oddlots, "least_lot", [WEB, LENGTHS, ODD]),
+    (oddlots, "exchanged", [WEB, ODD, ("place", 1, "place")]),
+    (oddlots, "heights", [WEB, LENGTHS, ODD]),
+    (oddlots, "peaks", [WEB, LENGTHS, ODD]),
+    (oddcuts, "is_odd_cut", [WEB, ODD, ("value", (1, 3), "any")]),
+    (oddcuts, "odd_cuts", [WEB, ODD]),
+    (oddcuts, "least_odd_cut", [WEB, ODD]),
+    (oddcuts, "is_packing", [WEB, SHORT, ODD, ("value", PACKED, "any")]),
+    (oddcuts, "packing_worth", [WEB, SHORT, ODD, ("packing", PACKED, "packing")]),
+    (oddcuts, "level_packing", [WEB, LENGTHS, ODD]),
+    (oddcuts, "are_best", [WEB, SHORT, ODD, ("lot", (0, 3), "any"), ("packing", PACKED, "any")]),
+    (oddcuts, "has_even_rounds", [WEB, LENGTHS]),
+    (cheapest, "plan_cost", [WEB, PLAIN, PLAN, PRICES]),
+    (cheapest, "pair_charge", [WEB, ONE, ("other", 3, "place"), PRICES, TOLLS]),
+    (cheapest, "tolls_worth", [WEB, PLAIN, PRICES, TOLLS]),
+    (cheapest, "cheapest", [WEB, PLAIN, PRICES]),
+    (cheapest, "is_cheapest", [WEB, PLAIN, PRICES, ("value", CHEAPEST, "any")]),
+    (records, "check_of", [("text", "a1", "text of signs")]),
+    (records, "record_of", [WEB, PLAIN, ("paper", ("plan", FITTING), "paper")]),
+    (records, "is_record", [("value", RECORD, "any")]),
+    (records, "read_record", [("record", RECORD, "record")]),
+    (commands, "is_name", [("value", "a1", "any")]),
+    (commands, "is_command", [("value", "undo", "any")]),
+    (commands, "is_deed", [("value", "drop p", "any")]),
+]
+
+CALLS = STAGE_1 + STAGE_2 + STAGE_3 + STAGE_4 + STAGE_5 + STAGE_6

@@ -231,6 +231,31 @@ NOT_PAIRS = STRANGE + [[(0, 1)], ([0, 1],), ((0, 1, 1),), ((0,),), ((1, 0),), ((
                        {(0, 1)}, {(0, 1): 1}, ((0, 1), None), "01", ((TOUCHY, 1),), ((0, 1), TOUCHY), (0, 1)]
 
 
+# No marks, no odd places, no lots, no ties with rooms, no prices and no tolls of KITE.
+NOT_MARKS = STRANGE + [(0,), (1, 0), (0, 0), (0, 4), (-1, 0), [0, 1], (0, True), (False, 1), (0, None), (0, 1, 1), "01", (0, "1"), (0, 10 ** 39),
+                       (TOUCHY, 1), (0, TOUCHY), {0, 1}, {0: 0, 1: 1}]
+NOT_ODD_PLACES = NOT_EMPTY + [(0,), (1, 0), (0, 0), (0, 4), (-1, 0), [0, 1], (0, True), (False, 1), (0, None), (0, 1, 2), "01", (0, "1"), (0, 10 ** 39),
+                              (TOUCHY, 1), (0, TOUCHY), {0, 1}, [], (0, 1, 2, 2)]
+NOT_LOTS = NOT_EMPTY + [(1, 0), (0, 0), (0, 5), (5,), (-1, 0), (-1,), [0, 1], [], (0, True), (False, 1), (0, None), "01", (0, "1"), (10 ** 39,), (TOUCHY, 1),
+                        (0, TOUCHY), {0, 1}]
+NOT_ROOMY = NOT_EMPTY + [
+    list(KITE[2]), ((0, 1, 0),), ((0, 1, 301),), ((1, 0, 1),), ((0, 0, 1),), ((0, 4, 1),), ((-1, 0, 1),), ((0, 1, True),), ((0, True, 1),), ((False, 1, 1),),
+    ((0, 1),), ((0, 1, 1, 1),), ([0, 1, 1],), ((0, 2, 1), (0, 1, 1)), ((0, 1, 1), (0, 1, 1)), ((0, 1, 1), (0, 1, 2)), ((0, 1, None),), ((0, 1, TOUCHY),),
+    ((0, 1, 10 ** 39),), "011", {(0, 1, 1)}]
+NOT_PRICES = NOT_LENGTHS + [(1, 9, 1, 2, 1001), (1, 9, 1, 2, 10 ** 12), ((1, 1), (9, 1), (1, 1), (2, 1), (0, 1))]
+GOOD_TOLLS = ((1, 2), (0, 1), (3, 1), (0, 1), (7, 3))
+NOT_TOLLS = STRANGE + [list(GOOD_TOLLS), GOOD_TOLLS[:4], GOOD_TOLLS + ((0, 1),), (1, 2, 3, 4, 5), GOOD_TOLLS[:4] + ((-1, 2),), GOOD_TOLLS[:4] + ((2, 4),),
+                       GOOD_TOLLS[:4] + ((True, 1),), GOOD_TOLLS[:4] + ([0, 1],), GOOD_TOLLS[:4] + (None,), GOOD_TOLLS[:4] + (TOUCHY,),
+                       (TOUCHY,) * 5] + [GOOD_TOLLS[:4] + (value,) for value in NOT_RATIOS]
+NOT_PACKINGS = NOT_EMPTY + [
+    [((3,), (1, 2))], (((3,), (0, 1)),), (((3,), (-1, 2)),), (((3,), (2, 4)),), (((3,), 1),), (((1,), (1, 2)),), (((3,), (True, 2)),), (((0,), (1, 2)),),
+    (((3,), (1, 2), ()),), (((3,),),), ([(3,), (1, 2)],), (([3], (1, 2)),), (((4,), (1, 2)),), (((3,), TOUCHY),), ((TOUCHY, (1, 2)),), (((3,), None),),
+    ((None, (1, 2)),), (((3,), (1, 4)), ((3,), (1, 2))), (((3,), (1, 1)), ((1, 3), (1, 1))), (((3,), (4, 1)),), (((), (1, 2)),)]
+NOT_RECORDS = STRANGE + ["places 2\ntie 0 1 1\nwish 0 1 2\ncut 1\ncheck 968554\n", "places 2\ntie 0 1 1\nwish 0 1 2\ncut 1\n", "check 0\n", "cut 1\ncheck 0\n", b"check 0\n",
+                         ["places 2\ntie 0 1 1\nwish 0 1 2\ncut 1\ncheck 968555\n"]]
+NOT_SIGNS = NOT_TEXTS + ["A", "a;b", "tie 0 1\t2", "#", "1,2", "a\r", "%", "~", "places 2.", chr(233), "0" * 10 + "_"]
+
+
 def fraction(ratio):
     return Fraction(ratio[0], ratio[1])
 

@@ -37,10 +37,15 @@ def functions(tree):
     return [node for node in ast.walk(tree) if isinstance(node, ast.FunctionDef)]
 
 
+def classes(tree):
+    return [node for node in ast.walk(tree) if isinstance(node, ast.ClassDef)]
+
+
 def bound_names(tree):
     """Names of parameters and local variables, and of functions and classes."""
     inner = [node.id for node in ast.walk(tree) if isinstance(node, ast.Name) and isinstance(node.ctx, ast.Store)]
     inner += [node.arg for node in ast.walk(tree) if isinstance(node, ast.arg)]
+    inner += [node.name for node in ast.walk(tree) if isinstance(node, ast.ExceptHandler) and node.name]
     outer = [node.name for node in ast.walk(tree) if isinstance(node, (ast.FunctionDef, ast.ClassDef))]
     return inner, outer
 
@@ -120,7 +125,7 @@ class Language(unittest.TestCase):
 
     def test_l6_l7_statements_and_values(self):
         barred = (ast.GeneratorExp, ast.Global, ast.AsyncFunctionDef, ast.Await, ast.NamedExpr, ast.Yield, ast.YieldFrom,
-                  ast.Div, ast.Starred, ast.AnnAssign, ast.Try, ast.With)
+                  ast.Div, ast.Starred, ast.AnnAssign, ast.With)
         for path in files():
             for node in ast.walk(tree_of(path)):
                 self.assertNotIsInstance(node, barred, f"{path.name} {getattr(node, 'lineno', '')}")
@@ -136,13 +141,13 @@ class Language(unittest.TestCase):
             tree = tree_of(path)
             inner, outer = bound_names(tree)
             imported = [alias.name for node in imports(tree) for alias in node.names]
-            classes = [node.name for node in ast.walk(tree) if isinstance(node, ast.ClassDef)]
+            own = [node.name for node in classes(tree)]
             for name in inner + [name for name in outer if name != "__init__"]:
                 self.assertRegex(name, r"^(_|_?[A-Za-z][A-Za-z0-9_]*)$", path.name)
                 self.assertNotIn(name, TAKEN, path.name)
                 self.assertNotIn(name, NAMES_BARRED, path.name)
             for name in inner:
-                self.assertNotIn(name, imported + classes, path.name)
+                self.assertNotIn(name, imported + own, path.name)
             module = [part.name for part in tree.body if isinstance(part, (ast.FunctionDef, ast.ClassDef))]
             module += [part.targets[0].id for part in tree.body if isinstance(part, ast.Assign)]
             for node in ast.walk(tree):
@@ -156,17 +161,45 @@ class Language(unittest.TestCase):
     def test_l15_no_local_name_is_a_function_of_its_file(self):
         for path in files():
             tree = tree_of(path)
-            inner, outer = bound_names(tree)
+            inner, _ = bound_names(tree)
+            outer = [part.name for part in tree.body if isinstance(part, (ast.FunctionDef, ast.ClassDef))]
             module = [part.targets[0].id for part in tree.body if isinstance(part, ast.Assign)]
             self.assertEqual([name for name in inner if name in outer], [], path.name)
             self.assertEqual([name for name in module if inner.count(name) > 1], [], path.name)
 
+    def test_l5_l18_classes(self):
+        for path in files():
+            for node in classes(tree_of(path)):
+                methods = [part.name for part in functions(node)]
+                attributes = [part.attr for part in ast.walk(node) if isinstance(part, ast.Attribute) and isinstance(part.ctx, ast.Store)]
+                self.assertEqual([name for name in methods if name in attributes], [], node.name)
+                self.assertEqual(len(methods), len(set(methods)))
+                for name in methods:
+                    self.assertTrue(name == "__init__" or not name.startswith("_"), name)
+                for function in functions(node):
+                    self.assertEqual(function.args.args[0].arg, "self")
+
+    def test_l19_errors(self):
+        errors = [node.name for node in classes(tree_of(PACKAGE / "errors.py"))]
+        for path in files():
+            for node in ast.walk(tree_of(path)):
+                if isinstance(node, ast.Try):
+                    self.assertEqual([node.finalbody, node.orelse], [[], []])
+                    for handler in node.handlers:
+                        caught = handler.type.elts if isinstance(handler.type, ast.Tuple) else [handler.type]
+                        for name in caught:
+                            self.assertIn(name.id, errors, path.name)
+                if isinstance(node, ast.Raise):
+                    self.assertIsInstance(node.exc, ast.Call)
+                    self.assertIn(node.exc.func.id, errors, path.name)
+
     def test_l20_l22_l25_calls(self):
+        own = [part.name for path in files() for node in classes(tree_of(path)) for part in functions(node)]
         for path in files():
             for node in ast.walk(tree_of(path)):
                 if isinstance(node, ast.Call):
                     if isinstance(node.func, ast.Attribute):
-                        self.assertIn(node.func.attr, METHODS, path.name)
+                        self.assertIn(node.func.attr, METHODS + own, path.name)
                     else:
                         self.assertIsInstance(node.func, ast.Name, path.name)
                     for keyword in node.keywords:

@@ -65,6 +65,11 @@ def is_number(run):
     return run[0] != "0" or len(run) == 1
 
 
+def is_count(text):
+    """Whether a string is digits without needless zeros, not too many."""
+    return all([is_digit(sign) for sign in text]) and is_number(text)
+
+
 def is_letter(sign):
     return "a" <= sign <= "z"
 
