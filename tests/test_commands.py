@@ -51,6 +51,8 @@ class Commands(unittest.TestCase):
             for command in ["tie p {} 1 2", "tie p 0 {} 2", "tie p 0 0 {}", "untie p {} 0", "untie p 5 {}", "wish p {} 0 0", "wish p 0 0 {}", "unwish p {} {}",
                             "room p {} 0", "least p 0 {}", "renumber p {}", "renumber p 0,{},0"]:
                 self.assertIs(is_command(command.replace("{}", number)), True, command)
+        for command in ["tie p 0,1 1 2", "tie p 0 1,2 2", "tie p 0 1 2,3", "untie p 0 1,1", "wish p 0 1 1,1", "unwish p 0,1 0", "room p 0,1 0", "least p 0 0,1"]:
+            self.assertIs(is_command(command), False, command)
         for number in NUMBERS:
             for command in ["tie p {} 1 2", "tie p 0 {} 2", "tie p 0 1 {}", "untie p {} 1", "untie p 0 {}", "wish p 0 1 {}", "unwish p {} 1", "room p 0 {}",
                             "least p {} 0", "renumber p {}", "renumber p 0,{}", "renumber p {},0", "renumber p 0,{},1"]:

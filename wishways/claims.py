@@ -26,17 +26,10 @@ def is_true(word, web, wishes):
 
 
 def is_paper_of(word, web, wishes, value):
-    """Whether any value is a paper of the claim with this word, for the traffic."""
-    if word not in ("served", "barred", "crowded") or not is_paper(web, wishes, value):
+    """Whether any value is a paper of the claim with this word, or of its contrary, for the traffic.
+
+    Of which of both it is one is told by its own first word: a plan serves, all others bar.
+    """
+    if word in ("good", "bad") or not is_paper(web, wishes, value):
         return False
-    if word == "crowded":
-        return value[0] == "cut"
-    return (value[0] == "plan") == (word == "served")
-
-
-def paper_word(word, web, wishes, value):
-    """The word of the claim, or of its contrary, of which any value is a paper; None if it is of neither."""
-    for told in (word, CONTRARY[word]):
-        if is_paper_of(told, web, wishes, value):
-            return told
-    return None
+    return word in ("served", "barred") or value[0] == "cut"

@@ -2,7 +2,7 @@
 
 from wishways.answers import answer_on, in_row, states_text
 from wishways.basics import is_listed
-from wishways.claims import is_paper_of, is_true, paper_word
+from wishways.claims import is_paper_of, is_true
 from wishways.commands import DEEDS, is_deed, is_name, kinds_behind, read_command
 from wishways.deeds import done
 from wishways.errors import CommandFailed, InvalidCommand, InvalidDeeds, InvalidPaper, LabelTaken, LimitError
@@ -180,25 +180,26 @@ class Desk:
             raise UnknownLabel(label)
         return page.claims[label]
 
+    def is_paper_now(self, claim, value):
+        """Whether any value is a paper of a claim, or of its contrary, for what is kept now."""
+        word, name = claim
+        traffic = self.pages[self.present].traffic
+        return name in traffic and is_paper_of(word, traffic[name][0], traffic[name][1], value)
+
     def attach(self, label, paper):
         """Keep a paper of the label's claim, or of its contrary, with the label."""
         claim = self.claim_under(label)
-        word, name = claim
-        traffic = self.pages[self.present].traffic
-        told = None if name not in traffic else paper_word(word, traffic[name][0], traffic[name][1], paper)
-        if told is None:
+        if not self.is_paper_now(claim, paper):
             raise InvalidPaper(paper)
-        self.papers[label] = (claim, told, paper)
+        self.papers[label] = (claim, paper)
 
     def fits(self, label):
         """Whether the paper that is kept with the label is still one of what it was one of, for the same claim."""
         claim = self.claim_under(label)
-        traffic = self.pages[self.present].traffic
-        if label not in self.papers or claim[1] not in traffic:
+        if label not in self.papers:
             return False
-        noted, told, paper = self.papers[label]
-        web, wishes = traffic[claim[1]]
-        return noted == claim and is_paper_of(told, web, wishes, paper)
+        noted, paper = self.papers[label]
+        return noted == claim and self.is_paper_now(claim, paper)
 
     def twin(self):
         """A desk that goes on by itself, with all of this one."""

@@ -64,11 +64,8 @@ def do_close(sides, ties):
     common = [common_faces(sides[one], sides[other]) for one, other in steps_along(ties)]
     if any([len(faces) != 1 for faces in common]):
         return False
-    met = [faces[0] for faces in common]
-    if len(set(met)) < len(met):
-        return False
-    return all([sorted(sides[tie][:2]) == sorted([face, after])
-                for tie, face, after in zip(ties, met[-1:] + met[:-1], met)])
+    # Where all of them are unlike, those which a tie has in common with its neighbours are its two faces.
+    return len(set([faces[0] for faces in common])) == len(ties)
 
 
 def is_round_way(sides, ties):

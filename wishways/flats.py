@@ -60,7 +60,7 @@ def are_parted(line, one, other):
 
 
 def do_lines_cross(line, second):
-    """Whether two lines of unlike ends, none of which lies on the other line, meet."""
+    """Whether two lines meet, no end of the one of which lies on the other one, but it be an end of both."""
     return are_parted(line, second[0], second[1]) and are_parted(second, line[0], line[1])
 
 
@@ -72,23 +72,19 @@ def do_draw(web, points):
         line = (points[tie[0]], points[tie[1]])
         if any([is_between(point, line[0], line[1]) for point in points if point not in line]):
             return False
-        apart = [second for second in web[2] if second[0] not in tie[:2] and second[1] not in tie[:2]]
-        if any([do_lines_cross(line, (points[second[0]], points[second[1]])) for second in apart]):
+        if any([do_lines_cross(line, (points[one], points[other])) for one, other, _ in web[2]]):
             return False
     return True
 
 
-def quarter(point, first, end):
-    """Where an end stands, clockwise from the first one: 0 there, 1 ahead of straight back, 2 just so, 3 behind."""
-    if end == first:
-        return 0
-    side = turned_left(point, first, end)
-    return 1 if side < 0 else 2 if side == 0 else 3
+def half(point, first, end):
+    """0 of an end less than half the way round, clockwise from the first one on, 1 of others."""
+    return 0 if end == first or turned_left(point, first, end) < 0 else 1
 
 
 def is_ahead(point, first, end, other):
     """Whether an end comes ahead of another one, clockwise around the point, from the first one on."""
-    near, far = quarter(point, first, end), quarter(point, first, other)
+    near, far = half(point, first, end), half(point, first, other)
     return near < far if near != far else turned_left(point, end, other) < 0
 
 

@@ -69,9 +69,7 @@ def read_counts(words):
 
 def read_way(words):
     """The tuple (way, ratio) that the words of a line tell; what they don't tell is None."""
-    if words[0] != "way" or len(words) < 2:
-        return (None, None)
-    return (read_counts(words[2:]), read_ratio(words[1]))
+    return (read_counts(words[2:]), read_ratio(words[1]) if len(words) > 1 else None)
 
 
 def read_paper(lines):

@@ -151,14 +151,12 @@ def led_through(near, far):
 
 
 def split_at(laid, place, one, other):
-    """Split off as many steps from one to other at the place as can be."""
+    """Split off as many steps from one to other, which isn't less, at the place as can be."""
     much = most_split(laid, place, one, other)
     near = taken_out(laid, one, place, much)
     far = taken_out(laid, place, other, much)
     if one != other:
-        pair = pair_of(one, other)
-        led = [(way if way[0] == pair[0] else way[::-1], part) for way, part in led_through(near, far)]
-        laid.parts[pair] = laid.parts.get(pair, []) + led
+        laid.parts[(one, other)] = laid.parts.get((one, other), []) + led_through(near, far)
 
 
 def split_all_at(laid, place):
